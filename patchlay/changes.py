@@ -1,7 +1,6 @@
 """One change: done on a page, asked where lines go, turned about."""
 
-from patchlay.errors import NotFitting
-from patchlay.kinds import check_change, check_number, check_page
+from patchlay.kinds import check_change, check_fits, check_number, check_page
 from patchlay.pieces import end_of, first_unfit, growth_ahead, replaced, turned_about
 
 MOST_LINE_NUMBER = 9999
@@ -11,10 +10,7 @@ def done(page, change):
     """The page with the change done; refused as NotFitting if the change doesn't fit it."""
     check_page(page)
     check_change(change)
-    unfit = first_unfit(page, change)
-    if unfit is not None:
-        piece, line = unfit
-        raise NotFitting(piece, line)
+    check_fits(page, change)
     return replaced(page, change)
 
 

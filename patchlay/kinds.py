@@ -1,13 +1,14 @@
 """What is a line, a page, a change, a sheet or a number, and the refusal of what is none."""
 
-from patchlay.errors import BadChange, BadNumber, BadPage, BadSheet
-from patchlay.pieces import end_of
+from patchlay.errors import BadChange, BadNumber, BadPage, BadSheet, NotFitting
+from patchlay.pieces import end_of, first_unfit
 
 MOST_PAGE_LINES = 2000
 MOST_PLACE = 2000
 MOST_PIECE_LINES = 500
 MOST_PIECES = 500
 MOST_AROUND = 9
+MOST_LEVEL = 9
 
 
 def is_number(value):
@@ -108,3 +109,11 @@ def check_number(value, most):
     """Refuse what is no number from 0 to the most."""
     if not is_number(value) or value < 0 or value > most:
         raise BadNumber(f"a number from 0 to {most} is asked for")
+
+
+def check_fits(page, change):
+    """Refuse a change that doesn't fit the page."""
+    unfit = first_unfit(page, change)
+    if unfit is not None:
+        piece, line = unfit
+        raise NotFitting(piece, line)

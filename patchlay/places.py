@@ -37,3 +37,26 @@ def next_places(page, piece):
             least = at
         places[at] = least
     return places
+
+
+def stands_around(page, piece):
+    """For each place of the page, its end too: how many lines ahead and behind stand there, from the piece on.
+
+    None stands where what the piece takes doesn't stand.
+    """
+    _, ahead, takes, _, behind = piece
+    # Read backward, the lines ahead begin with the one next to the piece.
+    backward = how_many_stand(ahead[::-1], page[::-1])[::-1]
+    forward = how_many_stand(takes + behind, page)
+    return [
+        (back, many - len(takes)) if many >= len(takes) else None
+        for back, many in zip(backward, forward)
+    ]
+
+
+def least_levels(page, piece):
+    """For each place of the page, its end too: the least level at which the piece fits; None if at none."""
+    return [
+        None if stand is None else max(len(piece[1]) - stand[0], len(piece[4]) - stand[1])
+        for stand in stands_around(page, piece)
+    ]

@@ -79,6 +79,12 @@ def share_lists(*values):
     return len(seen) != len(set(seen))
 
 
+def is_own(told, *given):
+    """Whether no list stands twice in what is told, and none of it in what was handed in."""
+    handed = {id(part) for value in given for part in lists_in(value)}
+    return not share_lists(told) and not any(id(part) in handed for part in lists_in(told))
+
+
 def slow_heights(old, new):
     """The fewest lines taken and put, for each many of the lines of both pages."""
     heights = [[0] * (len(new) + 1) for _ in range(len(old) + 1)]
@@ -124,6 +130,64 @@ def slow_most(page, sheet):
             for count in range(placed(best) + 2)
         ])
     return list(best), marks
+
+
+def at_level(piece, level):
+    """The sheet's piece with as many lines around fewer as the level says, the outermost ones left out."""
+    place, ahead, takes, puts, after = piece
+    for _ in range(level):
+        ahead = ahead[1:]
+        after = after[:-1]
+    return place, ahead, takes, puts, after
+
+
+def slow_spots(page, sheet, level):
+    """The spots and what the refused pieces lack, place by place and line by line."""
+    spots = []
+    lacking = []
+    last = None
+    for piece in sheet:
+        low = 0 if last is None else last[1] + len(last[0][2]) + 1
+        due = piece[0] if last is None else piece[0] + last[1] - last[0][0]
+        spot = None
+        for height in range(level + 1):
+            fitting = [place for place in range(low, len(page) + 1) if slow_fit(page, at_level(piece, height), place)]
+            if fitting:
+                near = min(abs(place - due) for place in fitting)
+                spot = (max(place for place in fitting if abs(place - due) == near), height)
+                break
+        spots.append(spot)
+        if spot is None:
+            lacking.append([(place, first_lack(page, at_level(piece, level), place))
+                            for place in range(low, len(page) + 1) if place + len(piece[2]) <= len(page)])
+        else:
+            last = (piece, spot[0])
+    return spots, lacking
+
+
+def first_lack(page, piece, place):
+    """The number of the first line of the sheet's piece that doesn't stand where it should."""
+    stands = dict(enumerate(page))
+    for at, line in enumerate(piece[1] + piece[2] + piece[4]):
+        if stands.get(place - len(piece[1]) + at) != line:
+            return at
+    return None
+
+
+def slow_around(page, change, many):
+    """The sheet of a change, line by line outward from each piece."""
+    ends = [place + len(takes) for place, takes, _ in change]
+    sheet = []
+    for at, (place, takes, puts) in enumerate(change):
+        ahead, after = [], []
+        for number in range(place - 1, -1, -1):
+            if len(ahead) < many and not (at > 0 and number < ends[at - 1]):
+                ahead.insert(0, page[number])
+        for number in range(ends[at], len(page)):
+            if len(after) < many and not (at + 1 < len(change) and number >= change[at + 1][0]):
+                after.append(page[number])
+        sheet.append((place, ahead, list(takes), list(puts), after))
+    return sheet
 
 
 def placed(places):

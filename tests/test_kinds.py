@@ -1,65 +1,16 @@
 """Points 1 and 2: what is handed in, its bounds, and what is refused first."""
 
-import copy
 import unittest
 
 from patchlay.answers import Made, Most
+from patchlay.bench import Bench
 from patchlay.changes import done, fits, now_at, turned
-from patchlay.errors import BadChange, BadNumber, BadPage, BadSheet, Clash, NotFitting
+from patchlay.errors import BadChange, BadNumber, BadPage, BadRows, BadSheet, Clash, NotFitting, TooFew
+from patchlay.making import made
 from patchlay.pairs import behind, beside, exchanged, merged
-
-KINDS = [True, False, None, 0, -1, 7, "", "a", "ab", (), ("a",), b"a", {}, {"a": 1}, {"a"}, object(), list, [None],
-         [1], [True], [b"a"], [["a"]], [("a",)], ["a", None], [()], [[]]]
-
-BAD_LINES = ["\n", "a\n", "\t", "\x1f", "\x7f", "a\x00b"]
-
-BAD_PAGES = KINDS + [[line] for line in BAD_LINES] + [["a"] * 2001]
-
-# Each of these stands where a piece should.
-BAD_PIECES = [
-    True, None, 3, "abc", ["a", "b"], {}, (), (0,), (0, ["a"]), (0, ["a"], [], []),
-    [0, ["a"], []],
-    (True, ["a"], []), (False, ["a"], []), (None, ["a"], []), ("0", ["a"], []), ([], ["a"], []),
-    (-1, ["a"], []), (2001, ["a"], []), (10 ** 40, ["a"], []),
-    (0, [], []),
-    (0, ("a",), []), (0, ["a"], ()), (0, (), ["a"]), (0, "a", []), (0, ["a"], "a"), (0, ["a"], ""), (0, "", ["a"]),
-    (0, None, ["a"]), (0, ["a"], None), (0, 0, ["a"]), (0, ["a"], False), (0, {"a": 1}, []), (0, b"a", ["a"]),
-    (0, [1], []), (0, [None], []), (0, [["a"]], []), (0, ["a"], [True]), (0, ["a"], ["a", b"b"]),
-    (0, ["\n"], []), (0, [], ["a\t"]), (0, [], ["\x7f"]),
-    (0, ["a"] * 501, []), (0, [], ["a"] * 501),
-    (["a"], [], 0),
-]
-
-BAD_CHANGES = [True, False, None, 0, 5, "", "abc", (), ((0, ["a"], []),), {}, {0: 1}, b"", set()] + [
-    [piece] for piece in BAD_PIECES
-] + [
-    [(0, ["a"], []), piece] for piece in BAD_PIECES
-] + [
-    # Pieces that touch, stand in one place, lie one in the other, or are told backwards.
-    [(0, ["a"], []), (1, ["a"], [])],
-    [(0, [], ["a"]), (0, [], ["b"])],
-    [(0, [], ["a"]), (0, ["a"], ["b"])],
-    [(0, ["a", "b", "c"], []), (1, ["b"], [])],
-    [(5, ["a"], []), (0, ["a"], [])],
-    [(5, [], ["a"]), (4, [], ["a"])],
-    [(0, ["a"], []), (4, ["a"], []), (5, [], ["a"])],
-    [(2 * at, [], ["a"]) for at in range(501)],
-]
-
-LONG = [(2000, ["a"] * 500, ["b"] * 500)]
-MANY = [(2 * at, ["a"], []) for at in range(500)]
-
-
-def refused(test, error, function, *given):
-    """Assert that the call is refused as this very class, and that nothing handed in is changed."""
-    try:
-        before = copy.deepcopy(given)
-    except TypeError:
-        before = given
-    with test.assertRaises(error) as caught:
-        function(*given)
-    test.assertIs(type(caught.exception), error, given)
-    test.assertEqual(repr(given).split(" object at")[0], repr(before).split(" object at")[0])
+from patchlay.sheets import around, laid, least_around, most
+from patchlay.texts import read, written
+from wrong import BAD_CHANGES, BAD_PAGES, BAD_SHEETS, KINDS, LONG, MANY, NO_NUMBERS, refused
 
 
 class Pages(unittest.TestCase):
@@ -71,6 +22,14 @@ class Pages(unittest.TestCase):
                 refused(self, BadPage, Made([], [[0]]).shows, page, [])
                 refused(self, BadPage, Made([], [[0]]).shows, [], page)
                 refused(self, BadPage, Most([], [[-1, None]]).shows, page, [])
+                refused(self, BadPage, made, page, [])
+                refused(self, BadPage, made, [], page)
+                refused(self, BadPage, around, page, [])
+                refused(self, BadPage, least_around, page, [])
+                refused(self, BadPage, laid, page, [])
+                refused(self, BadPage, most, page, [])
+                if page is not None:
+                    refused(self, BadPage, Bench, page)
 
     def test_each_sign_from_the_blank_to_the_tilde_may_stand_in_a_line(self):
         signs = "".join(chr(number) for number in range(32, 127))
@@ -98,6 +57,9 @@ class Changes(unittest.TestCase):
                 refused(self, BadChange, fits, ["a"], change)
                 refused(self, BadChange, now_at, change, 0)
                 refused(self, BadChange, turned, change)
+                refused(self, BadChange, around, ["a"], change)
+                refused(self, BadChange, least_around, ["a"], change)
+                refused(self, BadChange, Bench(["a"]).do, change)
                 for function in (behind, beside, merged, exchanged):
                     refused(self, BadChange, function, change, [])
                     refused(self, BadChange, function, [], change)
@@ -126,12 +88,29 @@ class Changes(unittest.TestCase):
 
 class Numbers(unittest.TestCase):
     def test_what_is_no_number_from_0_to_9999_is_refused(self):
-        for number in (True, False, None, "0", "", [], [0], (0,), b"0", {}, object(), -1, 10000, 10 ** 30, -10 ** 30):
+        for number in NO_NUMBERS + [-1, 10000, 10 ** 30, -10 ** 30]:
             refused(self, BadNumber, now_at, [], number)
+
+    def test_what_is_no_number_from_0_to_9_is_refused(self):
+        for number in NO_NUMBERS + [-1, 10, 10 ** 30, -10 ** 30]:
+            refused(self, BadNumber, around, [], [], number)
+            refused(self, BadNumber, laid, [], [], number)
+            refused(self, BadNumber, Bench().lay, [], number)
 
     def test_numbers_at_their_bounds(self):
         self.assertEqual(now_at([], 0), 0)
         self.assertEqual(now_at([], 9999), 9999)
+        for number in (0, 9):
+            self.assertEqual(around([], [], number), [])
+            self.assertEqual(laid([], [], number).spots, [])
+            self.assertEqual(Bench().lay([], number), [])
+
+    def test_pages_of_more_than_40_lines_are_not_made(self):
+        for old, new in ((41, 0), (0, 41), (41, 41), (2000, 40)):
+            refused(self, BadNumber, made, ["a"] * old, ["a"] * new)
+        refused(self, BadPage, made, ["a"] * 41, ["\n"])
+        refused(self, BadPage, made, [1], ["a"] * 41)
+        refused(self, BadPage, made, ["a"] * 2001, [])
 
 
 class Order(unittest.TestCase):
@@ -145,6 +124,36 @@ class Order(unittest.TestCase):
         refused(self, BadChange, now_at, [(0, [], [])], True)
         refused(self, NotFitting, done, ["a"], [(0, ["b"], [])])
 
+    def test_the_page_then_the_change_then_the_number_then_the_fit_of_sheets(self):
+        unfit = [(0, ["b"], [])]
+        refused(self, BadPage, around, None, None, None)
+        refused(self, BadPage, around, ["\n"], unfit, 10)
+        refused(self, BadPage, around, (), [(0, [], [])], -1)
+        refused(self, BadChange, around, ["a"], unfit + [()], True)
+        refused(self, BadNumber, around, ["a"], unfit, 10)
+        refused(self, BadNumber, around, ["a"], unfit, None)
+        refused(self, NotFitting, around, ["a"], unfit, 9)
+        refused(self, BadPage, least_around, [None], None)
+        refused(self, BadChange, least_around, ["a"], unfit + [()])
+        refused(self, NotFitting, least_around, ["a"], unfit)
+
+    def test_the_page_then_the_sheet_then_the_number(self):
+        unfit = [(0, [], ["b"], [], [])]
+        refused(self, BadPage, laid, None, None, None)
+        refused(self, BadPage, laid, [0], [], 10)
+        refused(self, BadSheet, laid, [], None, True)
+        refused(self, BadSheet, laid, [], unfit + [()], 10)
+        refused(self, BadNumber, laid, [], unfit, 10)
+        refused(self, BadPage, most, None, None)
+        refused(self, BadSheet, most, [], None)
+
+    def test_the_order_of_a_benchs_refusals(self):
+        refused(self, BadSheet, Bench().lay, [()], True)
+        refused(self, BadNumber, Bench().lay, [(0, [], ["b"], [], [])], True)
+        refused(self, TooFew, Bench().lay, [(0, [], ["b"], [], [])], 9)
+        refused(self, BadChange, Bench().do, [(0, ["b"], []), ()])
+        refused(self, NotFitting, Bench().do, [(0, ["b"], [])])
+
     def test_a_change_goes_ahead_of_the_clash(self):
         one = [(0, [], ["x"])]
         refused(self, Clash, behind, one, [(0, ["y"], [])])
@@ -156,23 +165,15 @@ class Order(unittest.TestCase):
         refused(self, BadSheet, Most([], []).shows, [], None)
 
 
-BAD_SHEETS = [True, None, 0, "", (), {}, [None], [()], [(0, ["a"], [])], [[0, [], ["a"], [], []]],
-              [(0, [], [], [], [])], [(0, ["a"], [], [], ["a"])], [(0, ["a"] * 10, ["a"], [], [])],
-              [(0, [], ["a"], [], ["a"] * 10)], [(0, (), ["a"], [], [])], [(0, [], ["a"], [], ())],
-              [(0, None, ["a"], [], [])], [(0, [], ["a"], [], "")], [(0, [], ("a",), [], [])],
-              [(True, [], ["a"], [], [])], [(-1, [], ["a"], [], [])], [(2001, [], ["a"], [], [])],
-              [(0, ["\n"], ["a"], [], [])], [(0, [], ["a"], [], [1])], [(0, [], ["a"] * 501, [], [])],
-              [(0, [], [], ["a"] * 501, [])], [(0, [], ["a"], [], [], [])],
-              [(0, [], ["a"], [], []), (1, [], ["a"], [], [])],
-              [(3, [], ["a"], [], []), (1, [], ["a"], [], [])],
-              [(2 * at, [], [], ["a"], []) for at in range(501)]]
-
-
 class Sheets(unittest.TestCase):
     def test_what_is_no_sheet_is_refused(self):
         for sheet in BAD_SHEETS:
             with self.subTest(sheet=str(sheet)[:60]):
                 refused(self, BadSheet, Most([], [[-1, None]]).shows, ["a"], sheet)
+                refused(self, BadSheet, laid, ["a"], sheet)
+                refused(self, BadSheet, most, ["a"], sheet)
+                refused(self, BadSheet, written, sheet)
+                refused(self, BadSheet, Bench(["a"]).lay, sheet)
 
     def test_sheets_at_their_bounds(self):
         nine = ["a"] * 9
@@ -180,6 +181,27 @@ class Sheets(unittest.TestCase):
         most = Most([None] * 500, [[-1, None]] + [[-1, None]] * 500)
         self.assertTrue(most.shows(["a"] * 2000, sheet))
         self.assertTrue(Most([None], [[-1, None]] * 2).shows([], [(2000, [], ["a"] * 500, ["a"] * 500, [])]))
+
+    def test_whole_sheets_at_their_bounds(self):
+        nine = ["x"] * 9
+        sheet = [(4 * at, nine, ["a"], ["b"] * 500, nine) for at in range(500)]
+        self.assertEqual(laid(["a"] * 2000, sheet).spots, [None] * 500)
+        self.assertEqual(laid(["a"] * 2000, sheet, 9).spots, [(4 * at, 9) for at in range(500)])
+        self.assertEqual(most(["a"] * 2000, sheet).places, [None] * 500)
+        self.assertEqual(read(written(sheet)), sheet)
+        self.assertEqual(len(Bench(["a"] * 2000).lay(sheet, 9)), 1500 + 500 * 500)
+        far = [(2000, nine, ["a"] * 500, [], nine)]
+        self.assertEqual(laid(["a"] * 500, far, 9).spots, [(0, 9)])
+        self.assertEqual(read(written(far)), far)
+
+
+class Texts(unittest.TestCase):
+    def test_what_is_no_text_is_refused_at_row_0(self):
+        for text in KINDS:
+            if not isinstance(text, str):
+                with self.assertRaises(BadRows) as caught:
+                    read(text)
+                self.assertEqual(caught.exception.row, 0)
 
 
 if __name__ == "__main__":

@@ -16,7 +16,32 @@ INTERFACE = {
     "changes": ["done", "fits", "now_at", "turned"],
     "pairs": ["behind", "beside", "merged", "exchanged"],
     "answers": ["Answer", "Both", "Quarrel", "Made", "Laid", "Most"],
+    "making": ["made"],
+    "sheets": ["around", "laid", "least_around", "most"],
+    "texts": ["written", "read"],
+    "bench": ["Bench"],
 }
+
+METHODS_LISTED = {
+    "Made": ["shows"],
+    "Most": ["shows"],
+    "Bench": ["page", "whence", "times", "do", "lay", "undo", "redo"],
+}
+
+# The arguments of each, with their names, as the interface lists them; a default value is written behind "=".
+ARGUMENTS = {
+    "done": "page change", "fits": "page change", "now_at": "change number", "turned": "change",
+    "behind": "one other", "beside": "one other", "merged": "one other", "exchanged": "one other",
+    "made": "old new", "around": "page change many=3", "laid": "page sheet level=0", "least_around": "page change",
+    "most": "page sheet", "written": "sheet", "read": "text",
+    "Both": "other one", "Quarrel": "pairs", "Made": "change heights", "Laid": "spots change lacking",
+    "Most": "places marks", "Bench": "page=None", "Bench.page": "", "Bench.whence": "", "Bench.times": "",
+    "Bench.do": "change", "Bench.lay": "sheet level=0", "Bench.undo": "", "Bench.redo": "",
+    "Made.shows": "old new", "Most.shows": "page sheet",
+}
+
+BARRED = re.compile(r"^(_wall|_pe_|_dcw_|_enum_|_cm_|_twin_re_|_lay_|_law_|_stub_|_sre|_cold|_tuplegetter|_outside|"
+                    r"_record|_written_out|_member_names|register|mro|elements|open|input|law|version_info)")
 
 BUILTINS = set("""len range enumerate zip min max sum abs sorted reversed int str bool bytes list tuple dict set
     frozenset isinstance ord repr any all divmod pow iter next map super property staticmethod classmethod object
@@ -31,6 +56,20 @@ WORDS = re.compile(r"\b(type|typing|enum|Enum|Flag|Generic|Protocol|ABC|namedtup
 
 NODES = (ast.Global, ast.AsyncFunctionDef, ast.AsyncFor, ast.AsyncWith, ast.Await, ast.Div, ast.Import, ast.Set,
          ast.SetComp)
+
+
+def own_names(tree):
+    """The names that a file itself defines, not those that it imports."""
+    assigned = [target.id for node in tree.body if isinstance(node, ast.Assign) for target in node.targets]
+    return [node.name for node in tree.body if isinstance(node, (ast.FunctionDef, ast.ClassDef))] + assigned
+
+
+def arguments(node):
+    """The arguments of a function, as the interface lists them."""
+    defaults = [""] * (len(node.args.args) - len(node.args.defaults)) + [
+        "=" + ast.unparse(default) for default in node.args.defaults
+    ]
+    return " ".join(part.arg + default for part, default in zip(node.args.args, defaults))
 
 
 class Language(unittest.TestCase):
@@ -58,8 +97,8 @@ class Language(unittest.TestCase):
 
     def test_imports(self):
         seen = {}
+        defined = {name[:-3]: own_names(tree) for name, _, tree in self.trees()}
         for name, _, tree in self.trees():
-            own = {node.name for other, _, tree_ in self.trees() for node in tree_.body if hasattr(node, "name")}
             seen[name[:-3]] = []
             for node in ast.walk(tree):
                 if isinstance(node, ast.ImportFrom):
@@ -68,7 +107,7 @@ class Language(unittest.TestCase):
                     seen[name[:-3]].append(node.module[9:])
                     for alias in node.names:
                         self.assertIsNone(alias.asname)
-                        self.assertIn(alias.name, own)
+                        self.assertIn(alias.name, defined[node.module[9:]], name)
         done = []
         while len(done) < len(seen):
             free = [name for name in seen if name not in done and all(part in done for part in seen[name])]
@@ -122,6 +161,39 @@ class Language(unittest.TestCase):
         for file, names in INTERFACE.items():
             for name in names:
                 self.assertIn(name, found[file])
+
+    def test_the_methods_stand_in_their_classes_and_take_what_the_interface_lists(self):
+        told = {}
+        for _, _, tree in self.trees():
+            for node in tree.body:
+                if isinstance(node, ast.FunctionDef):
+                    told[node.name] = arguments(node)
+                for part in node.body if isinstance(node, ast.ClassDef) else []:
+                    if isinstance(part, ast.FunctionDef):
+                        own = node.name if part.name == "__init__" else node.name + "." + part.name
+                        told[own] = arguments(part).partition(" ")[2]
+        for name, methods in METHODS_LISTED.items():
+            for method in methods:
+                self.assertIn(name + "." + method, told)
+        for name, expected in ARGUMENTS.items():
+            self.assertEqual(told[name], expected, name)
+
+    def test_no_name_is_barred(self):
+        for name, _, tree in self.trees():
+            for node in ast.walk(tree):
+                for field in ("id", "name", "arg", "attr"):
+                    word = getattr(node, field, None) or ""
+                    self.assertIsNone(BARRED.match(word), (name, word))
+
+    def test_what_a_loop_goes_over_is_not_changed_in_it(self):
+        for name, _, tree in self.trees():
+            for loop in ast.walk(tree):
+                if isinstance(loop, ast.For):
+                    over = {ast.unparse(node) for node in ast.walk(loop.iter) if isinstance(node, ast.Name)}
+                    for node in ast.walk(ast.Module(loop.body, [])):
+                        if isinstance(node, ast.Call) and isinstance(node.func, ast.Attribute):
+                            if node.func.attr in ("append", "pop", "extend", "insert", "remove", "clear"):
+                                self.assertNotIn(ast.unparse(node.func.value), over, (name, node.lineno))
 
 
 if __name__ == "__main__":
